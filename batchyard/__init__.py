@@ -1,0 +1,1 @@
+"""Batchyard: a house of jobs."""
