@@ -39,9 +39,15 @@ def is_code(thing):
     return all([_is_step(part, len(thing)) for part in thing])
 
 
+def demand_code(thing):
+    """Refuses what is no program."""
+    if not is_code(thing):
+        raise NoCode("this is no program")
+
+
 def slots_of(code):
     """The cards that a program names by take, over or field, and those that it names by put."""
-    _demand_code(code)
+    demand_code(code)
     read = [card for step in code if step[0] != "put" for card in _cards_of(step)]
     filled = [card for step in code if step[0] == "put" for card in _cards_of(step)]
     return tuple(sorted(set(read))), tuple(sorted(set(filled)))
@@ -49,7 +55,7 @@ def slots_of(code):
 
 def code_records(code):
     """The steps of a program as records."""
-    _demand_code(code)
+    demand_code(code)
     return tuple([_written_step(step) for step in code])
 
 
@@ -59,11 +65,6 @@ def code_in(records):
         return None
     code = tuple([_read_step(record) for record in records])
     return code if is_code(code) else None
-
-
-def _demand_code(thing):
-    if not is_code(thing):
-        raise NoCode("this is no program")
 
 
 def _is_step(thing, many):
