@@ -91,9 +91,8 @@ class Catalogue:
 
     def member(self, library, name):
         """The content of a library under this name, or None."""
-        if library not in self.files or self.files[library].kind != "library":
-            return None
-        return self.files[library].contents.get(name)
+        # Only libraries have contents under names, so that others have none under this one.
+        return self.files[library].contents.get(name) if library in self.files else None
 
     def listed(self):
         """A rising list of (name, kind, contents) of all names."""

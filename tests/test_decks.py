@@ -5,7 +5,7 @@ import unittest
 
 from batchyard import decks
 from batchyard.decks import cost_of, is_deck, is_left_out, price_of
-from tests.made import card, data, deck, ends_with, records, step
+from tests.made import card, data, deck, records, step
 from tests.things import no_tuples, odd_tuples, wrapped
 
 GOOD = deck(step("one"), step("two"))
@@ -210,9 +210,6 @@ class TestLeftOut(unittest.TestCase):
         for comparison in ("less", "same", "more"):
             for codes in ([], [("one", "zero")], [("two", 5)]):
                 self.assertIs(is_left_out(("one", comparison, 5), codes), True)
-
-    def test_ends_with_is_a_program(self):
-        self.assertIs(is_deck(deck(step(program=ends_with(9999)))), True)
 
 
 if __name__ == "__main__":
