@@ -49,19 +49,28 @@ class Catalogue:
     def __init__(self):
         self.files = {}
 
-    def make(self, name, kind, keeps):
-        """An operator's deed: a name more, without contents."""
+    def demand_new(self, name, kind, keeps):
+        """Refuses what can not be made."""
         if not is_name(name) or kind not in KINDS:
             raise NoName("this is no name, or no kind")
         if not is_whole(keeps, 1, MOST_KEPT):
             raise NoNumber("so many can not be kept")
         if name in self.files:
             raise NoName("the name is there")
+
+    def demand(self, name):
+        """Refuses a name that is not there."""
+        if not is_name(name) or name not in self.files:
+            raise NoName("there is no such name")
+
+    def make(self, name, kind, keeps):
+        """An operator's deed: a name more, without contents."""
+        self.demand_new(name, kind, keeps)
         self.files[name] = File(kind, keeps, None)
 
     def load(self, name, key, records):
         """An operator's deed: a content."""
-        self._demand(name)
+        self.demand(name)
         file = self.files[name]
         _demand_key(file, key)
         if not are_records(records):
@@ -70,7 +79,7 @@ class Catalogue:
 
     def drop(self, name):
         """An operator's deed: a name is no more."""
-        self._demand(name)
+        self.demand(name)
         del self.files[name]
 
     def keep(self, name, key, records, volume):
@@ -97,10 +106,6 @@ class Catalogue:
     def listed(self):
         """A rising list of (name, kind, contents) of all names."""
         return [(name, self.files[name].kind, self.files[name].shown()) for name in sorted(self.files)]
-
-    def _demand(self, name):
-        if not is_name(name) or name not in self.files:
-            raise NoName("there is no such name")
 
 
 def _demand_key(file, key):

@@ -24,6 +24,18 @@ class Desk:
             reason = self._line(asked[1])
         return (("told", True), None) if reason is None else (None, reason)
 
+    def resume(self, taken, puts, lines):
+        """Sets the desk where it was when so much was taken, put and printed."""
+        self.taken = list(taken)
+        self.puts = list(puts)
+        self.lines = lines
+
+    def last_record(self, at):
+        """The record that was told last of a card, or None."""
+        if at >= len(self.cards) or self.taken[at] == 0:
+            return None
+        return self.cards[at].records()[self.taken[at] - 1]
+
     def _next_record(self, at):
         if at >= len(self.cards):
             return None, "missing"

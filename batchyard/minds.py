@@ -35,6 +35,11 @@ def gone(mind, answer=None):
     return _done(mind, mind[PROGRAM][mind[PLACE]])
 
 
+def gone_so_far(mind, place, registers, records, ends):
+    """The mind of the same program at this place, with these for its own, that waits for nothing."""
+    return mind[PROGRAM], place, registers, records, ends, None
+
+
 def _answered(mind, answer):
     """A mind that waited, with its answer."""
     waits = mind[WAITS]

@@ -1,12 +1,7 @@
 """The plain house: jobs and deeds on files, done one behind the other, each alone."""
 
 from batchyard.catalogue import Catalogue
-from batchyard.decks import cost_of, is_left_out, price_of
-from batchyard.filecards import passes_of
-from batchyard.steps import StepAlone
-
-CANCELLED = "cancelled"
-DONE = "done"
+from batchyard.jobs import CANCELLED, Job
 
 
 def plain_house(order):
@@ -47,18 +42,6 @@ class PlainHouse:
         return list(self._ends)
 
 
-class JobAlone:
-    """A job on its way: how its steps ended, what they used, and what they passed on."""
-
-    def __init__(self, number, deck):
-        self.number = number
-        self.deck = deck
-        self.codes = []
-        self.turns = 0
-        self.lines = 0
-        self.passed = {}
-
-
 class PlainYard:
     """Where jobs and deeds on files are done as they come."""
 
@@ -73,7 +56,7 @@ class PlainYard:
         word, *parts = row
         if word == "job":
             number, deck, cut = parts
-            self._do_job(JobAlone(number, deck), cut)
+            self._do_job(Job(number, deck), cut)
         elif word == "file-make":
             name, kind, keeps = parts
             self.catalogue.make(name, kind, keeps)
@@ -84,41 +67,24 @@ class PlainYard:
             self.catalogue.drop(parts[0])
 
     def _do_job(self, job, cut):
-        steps = job.deck[6]
-        why = DONE
-        for at, passes in enumerate(passes_of(steps)):
-            if is_left_out(steps[at][3], job.codes):
-                continue
-            # Only here, where a step would go, so that a cut behind the last one does nothing.
+        while job.why is None:
             if cut is not None and len(job.codes) == cut[0]:
-                why = CANCELLED
-                self._charge(job, CANCELLED, cut[1], 0)
-                break
-            end = self._do_step(job, at, passes)
-            if isinstance(end, str):
-                why = end
-                break
-        self.end_rows.append((job.number, tuple(job.codes), why))
+                self._charge(job, CANCELLED, job.cut_off(cut[1]))
+            else:
+                self._do_step(job)
+        self.end_rows.append((job.number, tuple(job.codes), job.why))
 
-    def _do_step(self, job, at, passes):
-        """Does the step at this place; told is its code, or why it has none."""
-        turns, lines, steps = job.deck[4:]
-        step = StepAlone(turns - job.turns, lines - job.lines)
-        step.begin(steps[at], passes, job.passed, self.catalogue)
-        while step.end is None:
-            step.turn()
-        put = ()
-        if step.has_code():
-            step.leave(job.passed, self.catalogue)
-            put = step.desk.lines
-            self.paper_rows.append((job.number, at, put))
-        job.turns += step.turns
-        job.lines += len(put)
-        job.codes.append((steps[at][0], step.end))
-        self._charge(job, at, step.turns, len(put))
-        return step.end
+    def _do_step(self, job):
+        """Does the step at which the job is."""
+        place = job.place
+        job.begin_step(self.catalogue)
+        while job.step.end is None:
+            job.go()
+        lines, cost = job.end_step(self.catalogue)
+        if lines is not None:
+            self.paper_rows.append((job.number, place, lines))
+        self._charge(job, place, cost)
 
-    def _charge(self, job, what, turns, lines):
-        cost = cost_of(turns, lines, price_of(job.deck[3]))
+    def _charge(self, job, what, cost):
         if cost > 0:
             self.charge_rows.append((job.number, what, job.deck[1], cost))

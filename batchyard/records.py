@@ -18,6 +18,14 @@ def is_word(thing):
     return is_whole(thing, 0, GREATEST_WORD)
 
 
+def are_words(thing):
+    """Whether a thing is a list of words."""
+    if not isinstance(thing, list):
+        return False
+    # Without a call for each word, for disks ask this of all that is written.
+    return all([isinstance(word, int) and 0 <= word <= GREATEST_WORD and not isinstance(word, bool) for word in thing])
+
+
 def is_name(thing):
     """Whether a thing is a name: a text of 1 to 8 letters a to z."""
     if not isinstance(thing, str) or not 1 <= len(thing) <= MOST_LETTERS:

@@ -3,7 +3,7 @@
 from batchyard.cardfiles import open_cards, turn_files
 from batchyard.codes import code_in, is_code
 from batchyard.desks import Desk
-from batchyard.minds import begun, gone
+from batchyard.minds import ENDS, PLACE, REGISTERS, begun, gone, gone_so_far
 
 
 class StepAlone:
@@ -16,6 +16,8 @@ class StepAlone:
         self.mind = None
         self.desk = None
         self.end = None
+        # How far it was when it asked to be marked.
+        self.mark = None
 
     def begin(self, step, passes, passed, catalogue):
         """Begins a step of a deck, to which the names of passes are passed on, by what was passed on."""
@@ -44,6 +46,19 @@ class StepAlone:
             return
         self._ask_desk(asked)
 
+    def reached(self):
+        """How far the step is, as a value with which it can be resumed."""
+        mind = self.mind
+        desk = self.desk
+        return (self.turns, mind[PLACE], mind[REGISTERS], mind[ENDS], tuple(desk.taken), tuple(desk.puts), desk.lines)
+
+    def resume(self, reached):
+        """Sets a step that was just begun where it was when this was told."""
+        self.turns, place, registers, ends, taken, puts, lines = reached
+        self.desk.resume(taken, puts, lines)
+        records = [None if is_ended else self.desk.last_record(at) for at, is_ended in enumerate(ends)]
+        self.mind = gone_so_far(self.mind, place, registers, tuple(records), ends)
+
     def has_code(self):
         """Whether the step ended with a code."""
         return self.end is not None and not isinstance(self.end, str)
@@ -60,6 +75,8 @@ class StepAlone:
             self.end = reason
             return
         self.mind, _ = gone(self.mind, answer)
+        if asked[0] == "mark":
+            self.mark = self.reached()
 
 
 def _code_of(program, catalogue):

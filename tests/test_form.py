@@ -218,8 +218,46 @@ class TestForm(unittest.TestCase):
         own = {name for name in methods | attributes if not name.startswith("__")}
         self.assertEqual(own & (builtin - BUILTIN_METHODS), set())
         for node in self.each_node():
-            if isinstance(node, ast.Attribute):
+            # A class calls the __init__ of the one below it off that by name.
+            if isinstance(node, ast.Attribute) and node.attr != "__init__":
                 self.assertIn(node.attr, own | BUILTIN_METHODS)
+
+    def test_init_is_called_off_a_base_class_alone(self):
+        for path in files():
+            for kind in [node for node in ast.walk(parsed(path)) if isinstance(node, ast.ClassDef)]:
+                bases = [base.id for base in kind.bases]
+                for node in ast.walk(kind):
+                    if isinstance(node, ast.Attribute) and node.attr == "__init__":
+                        self.assertIn(node.value.id, bases, (path.name, node.lineno))
+
+    def test_attributes_are_assigned_through_names(self):
+        for node in self.each_node():
+            if isinstance(node, ast.Attribute) and isinstance(node.ctx, ast.Store):
+                part = node.value
+                while isinstance(part, (ast.Attribute, ast.Subscript)):
+                    part = part.value
+                self.assertIsInstance(part, ast.Name)
+
+    def test_double_underscore_methods(self):
+        for node in self.each_node():
+            if isinstance(node, ast.FunctionDef) and node.name.startswith("__"):
+                self.assertIn(node.name, ("__init__", "__len__"))
+            if isinstance(node, ast.FunctionDef) and node.name == "__len__":
+                last = node.body[-1]
+                self.assertIsInstance(last, ast.Return)
+                self.assertEqual(ast.unparse(last.value.func), "len")
+
+    def test_handlers_name_own_errors_alone(self):
+        for node in self.each_node():
+            if isinstance(node, ast.ExceptHandler):
+                self.assertNotIn(node.type.id, dir(builtins))
+
+    def test_names_that_no_name_may_begin_with(self):
+        barred = r"\A(_wall|_pe_|_dcw_|_enum_|_cm_|_twin_re_|_lay_|_law_|_stub_|_sre|_WallAttr" \
+                 r"|(_cold|_tuplegetter|_outside|_record|_written_out|_member_names)[0-9_]*\Z)"
+        for node in self.each_node():
+            for name in names_of(node):
+                self.assertNotRegex(name, barred)
 
     def test_sets_stand_where_they_are_used_up(self):
         for path in files():
