@@ -33,7 +33,7 @@ class House:
         self._demand_up()
         do_event(self.tables, ("operator", deed))
         self._keep_settled(("operator", _kept_deed(deed)))
-        self.history.append(("operator", _copied(deed)))
+        self.history.append(_unshared(("operator", deed)))
 
     def hand(self, deck):
         """A job more; told is its number."""
@@ -83,7 +83,7 @@ class House:
 
     def events(self):
         """A list of all events that came and were not refused."""
-        return [_copied(event) for event in self.history]
+        return [_unshared(event) for event in self.history]
 
     def _demand_up(self):
         if self.is_down:
@@ -146,8 +146,15 @@ def _kept_deed(deed):
     return deed
 
 
+def _unshared(event):
+    """An event whose lists nobody else has; only in an operator's deed with a paper a form can be, or have, one."""
+    if event[0] == "operator" and event[1][0] == "paper":
+        return _copied(event)
+    return event
+
+
 def _copied(thing):
-    """A thing like this; whoever turns a list in the one turns nothing in the other."""
+    """A thing like this, with lists of its own."""
     if isinstance(thing, list):
         return [_copied(part) for part in thing]
     if isinstance(thing, tuple):
