@@ -51,9 +51,9 @@ def _answer(tables, volume, drive):
     tables.mounts.demand_mountable(volume)
     there = tables.mounts.on_drive(drive)
     # None of the volumes is None, so that an empty drive is wanted by nobody.
-    if any([there in job.needs[2] for job in tables.running()]):
+    if any([there in other.needs[2] for other in tables.running()]):
         raise NoDrive("a running job wants the volume that is on this drive")
     asking = [job for job in tables.jobs if volume in job.asked]
     tables.mounts.mount(volume, drive, bool(asking))
     for job in asking:
-        job.asked = tuple([other for other in job.asked if other != volume])
+        job.asked = tuple([wanted for wanted in job.asked if wanted != volume])

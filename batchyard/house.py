@@ -4,13 +4,13 @@ from batchyard.disk import Disk
 from batchyard.errors import IsDown, IsUp, NoRoom
 from batchyard.events import do_event
 from batchyard.images import image_of, tables_in
-from batchyard.journal import Journal, recovered
+from batchyard.journal import HEAD, Journal, recovered
 from batchyard.press import is_form_told
 from batchyard.tables import Tables
 
-# So many ticks are loose at most. Their deeds, of one word each, stand in one block, the least one has room for them;
-# so each is one writing, and what a fall leaves of them is the same on all disks.
-MOST_LOOSE = 8
+# So many ticks are loose at most, on disks of shorter blocks as many as one has words for. Their deeds, of one word
+# each, stand in one block; so each is one writing, and what a fall leaves of them is the same on all other disks.
+MOST_LOOSE = 32
 TICK_DEED = None
 
 
@@ -21,9 +21,9 @@ class House:
         self.disk = Disk(blocks, size)
         self.tables = Tables()
         self.journal = Journal(self.disk, image_of(self.tables))
+        self.most_loose = min(MOST_LOOSE, size - HEAD)
         self.history = []
         self.is_down = False
-        self._make_place()
 
     def __len__(self):
         return len(self.tables.jobs)
@@ -44,7 +44,7 @@ class House:
         self._demand_up()
         if do_event(self.tables, ("tick",)):
             self._keep(TICK_DEED)
-            if self.loose() >= MOST_LOOSE:
+            if self.loose() >= self.most_loose:
                 self._settle()
         self.history.append(("tick",))
 
@@ -120,14 +120,14 @@ class House:
 
     def _make_place(self):
         """Sees to it that as many ticks as are ever loose have room in one block."""
-        if self.journal.gather(MOST_LOOSE):
+        if self.journal.gather(self.most_loose):
             return
         try:
             self.journal.renew(image_of(self.tables))
         except NoRoom:
             # Where there is no room for an image, ticks go on behind the other deeds, as long as these have room.
             return
-        self.journal.gather(MOST_LOOSE)
+        self.journal.gather(self.most_loose)
 
 
 def _tables_on(disk):

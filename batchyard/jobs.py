@@ -28,7 +28,7 @@ class Job:
 
     def begin_step(self, catalogue):
         """Begins the step at which the job is, from its mark, if it has one."""
-        _, _, _, _, turns, lines, steps = self.deck
+        turns, lines, steps = self.deck[4:]
         self.step = StepAlone(turns - self.turns, lines - self.lines)
         self.step.begin(steps[self.place], self.passes[self.place], self.passed, catalogue)
         if self.mark is not None:

@@ -21,13 +21,6 @@ class Journal:
         self._disk = disk
         self._half = len(disk) // 2
         self._capacity = len(disk.block(0)) - HEAD
-        self._age = 0
-        self._area = 0
-        self._many = 0
-        # The block of the area that is written now, the words ahead of it and in it.
-        self._at = 0
-        self._ahead = 0
-        self._words = []
         # What was written to blocks since all was settled.
         self._unsettled = {}
         self.renew(image)
@@ -53,6 +46,7 @@ class Journal:
         self._age = age + 1
         self._area = 1 - area
         self._many = 0
+        # The block of the area that is written now, how many words stand ahead of it, and those in it.
         self._at = 0
         self._ahead = 0
         self._words = []

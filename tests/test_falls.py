@@ -9,18 +9,20 @@ from batchyard.codes import code_records
 from batchyard.errors import IsDown, IsUp, NoChoices, NoRoom, YardError
 from batchyard.histories import happen
 from batchyard.house import House
+from batchyard.images import image_of
 from batchyard.journal import recovered
 from batchyard.values import written
 from tests.made import card, data, deck, ends_with, prints, reads, step, writes
 from tests.test_hand import LOOP
 from tests.things import wrapped
 from tests.yards import (
-    all_seen, disk_state, fall, house_with, lines_out, load, make, plain_file, refused, run_out, state_of, ticks, told_by_jobs,
+    all_seen, disk_state, fall, house_with, lines_out, load, make, plain_file, refused, run_out, ticks, told_by_jobs,
 )
 
 # It reads all records of its first card, puts each to its second, prints it, and is marked behind each.
 COPIER = (("take", 0), ("over", 0, 8), ("field", 1, 0, 0), ("add", 2, 2, 1), ("put", 1, (1, 2)), ("line", (2, 1)), ("mark",),
           ("go", 0), ("line", (2,)), ("end", 2))
+MARKS = (("mark",), ("set", 0, 1), ("mark",), ("set", 0, 2), ("set", 0, 3))
 WITHOUT_MARKS = (*COPIER[:6], ("set", 7, 7), *COPIER[7:])
 
 
@@ -131,13 +133,48 @@ class TestLoose(FallCase):
             house.tick()
             self.assertIn(house.loose(), (before + 1, 0))
             most = max(most, house.loose())
-        self.assertGreater(most, 3)
+        self.assertEqual(most, 31)
+
+    def test_on_short_blocks_it_is_settled_earlier(self):
+        for size, told in ((16, 8), (30, 22), (38, 30), (39, 31), (400, 31)):
+            house = house_with(blocks=2000, size=size)
+            house.hand(deck(step(program=LOOP), turns=2000))
+            most = 0
+            for _ in range(100):
+                house.tick()
+                most = max(most, house.loose())
+            self.assertEqual(most, told)
+            fall(house, True)
+            self.assertEqual(seen.jobs(house), [(1, "job", "running")])
+
+    def test_the_same_on_all_disks_however_full_their_blocks_are(self):
+        # On some of them new images are begun again and again.
+        shapes = ((2000, 100), (2000, 39), (1500, 40), (40, 400), (30, 44), (31, 45), (24, 50), (8, 90), (90, 41))
+        houses = [house_with(("volume", "v"), blocks=blocks, size=size) for blocks, size in shapes]
+        for house in houses:
+            house.hand(deck(step(program=(*MARKS, ("go", 0))), turns=5000))
+        for number in range(120):
+            # Deeds of other lengths, so that ticks come at each place of a block.
+            deed = ("add", "acc", 10 ** (number % 6)) if number % 7 else ("slot", 1, "a" * (number % 5 + 1))
+            for house in houses:
+                house.operator(deed)
+                ticks(house, number % 37)
+            self.assertEqual(len({house.loose() for house in houses}), 1)
+            for _ in range(2 if number % 3 == 0 else 0):
+                choices = [(number >> at) % 2 == 0 for at in range(houses[0].loose())]
+                for house in houses:
+                    fall(house, list(choices))
+                    self.assertEqual(house.loose(), 0)
+                    ticks(house, number % 34)
+                # Also how far its step is.
+                self.assertEqual(len({repr(image_of(house.tables)) for house in houses}), 1)
+                self.assertEqual(len({house.loose() for house in houses}), 1)
 
     def test_the_same_on_all_disks(self):
-        houses = [copying_house(blocks=blocks, size=size) for blocks, size in ((2000, 100), (6, 400), (120, 41), (2000, 400), (400, 16))]
-        for _ in range(20):
+        houses = [copying_house(blocks=blocks, size=size) for blocks, size in ((2000, 100), (6, 400), (120, 41), (2000, 400), (400, 39))]
+        for number in range(40):
             for house in houses:
-                house.tick()
+                ticks(house, number)
             self.assertEqual(len({house.loose() for house in houses}), 1)
             choices = [number % 3 == 0 for number in range(houses[0].loose())]
             for house in houses:
@@ -256,6 +293,14 @@ class TestFalls(FallCase):
             fall(house, [])
             self.assertEqual(seen.bookings(house), [(1, "cancelled", "acc", turns)])
 
+    def test_cancelled_behind_a_later_mark(self):
+        # Marked behind seven turns, and behind fifteen, at the same place.
+        house = copying_house()
+        ticks(house, 4)
+        fall(house, True)
+        house.operator(("cancel", 1))
+        self.assertEqual((seen.used(house, 1), seen.bookings(house)), ((15, 0), [(1, "cancelled", "acc", 15)]))
+
     def test_a_cancel_behind_loose_ticks_is_found_as_it_was(self):
         house = copying_house()
         ticks(house, 5)
@@ -341,6 +386,7 @@ class TestFalls(FallCase):
             house = made()
             ticks(house, many)
             fall(house, True)
+            fall(house, [])
             run_out(house)
             self.same_ends(house, ran_without_falls(made))
             self.assertEqual(lines_out(house), [(7,), (8,)])

@@ -13,7 +13,7 @@ from batchyard.values import is_value
 from tests.drawn import VOLUMES, drawn_deck, drawn_event, first_events, running_decks
 from tests.yards import all_seen, disk_state, fall, run_out, state_of, told_by_jobs
 
-SIZES = ((2000, 400), (400, 64), (40, 400), (2000, 48), (1500, 30))
+SIZES = ((2000, 400), (400, 64), (40, 400), (2000, 48), (2000, 41))
 
 
 class Run:

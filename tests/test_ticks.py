@@ -5,7 +5,7 @@ import unittest
 from batchyard import seen, units
 from tests.made import card, deck, ends_with, prints, reads, step, writes
 from tests.test_hand import LOOP
-from tests.yards import all_seen, disk_state, house_with, plain_file, run_out, state_of, ticks
+from tests.yards import all_seen, disk_state, house_with, plain_file, run_out, ticks
 
 ZERO = (("set", 0, 1), ("div", 0, 0, 1), ("end", 0))
 MARKS = (("set", 0, 1), ("mark",), ("set", 1, 2), ("mark",), *[("set", 2, 3)] * 20, ("end", 0))
