@@ -50,7 +50,7 @@ def _answer(tables, volume, drive):
     """A volume is mounted on a drive."""
     tables.mounts.demand_mountable(volume)
     there = tables.mounts.on_drive(drive)
-    # None of the volumes is None, so that an empty drive is wanted by nobody.
+    # Of an empty drive this is None, which no job wants.
     if any([there in other.needs[2] for other in tables.running()]):
         raise NoDrive("a running job wants the volume that is on this drive")
     asking = [job for job in tables.jobs if volume in job.asked]

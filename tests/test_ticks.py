@@ -3,7 +3,7 @@
 import unittest
 
 from batchyard import seen, units
-from tests.made import card, deck, ends_with, prints, reads, step, writes
+from tests.made import card, counts_to_print, counts_to_put, deck, ends_with, prints, reads, records, step, writes
 from tests.test_hand import LOOP
 from tests.yards import all_seen, disk_state, house_with, plain_file, run_out, ticks
 
@@ -434,6 +434,49 @@ class TestFilesOfSteps(TickCase):
         run_out(house)
         self.assertEqual([seen.why(house, number) for number in (1, 2)], ["done", "missing"])
         self.assertEqual((units.files(house), units.papers(house)), ([], [((1, 1), "plain", 1, False)]))
+
+
+class TestBounds(TickCase):
+    """Limits just reached, and just passed."""
+
+    def ran(self, *steps, ahead=(), **parts):
+        house = house_with(*ahead)
+        house.hand(deck(*steps, **parts))
+        run_out(house)
+        return house
+
+    def test_30_lines_and_one_more(self):
+        for many, why in ((30, "done"), (31, "records")):
+            house = self.ran(step(program=counts_to_print(), parameters=(many,)), turns=5000)
+            self.assertEqual(seen.why(house, 1), why)
+            self.assertEqual([row[2] for row in units.papers(house)], [30] if why == "done" else [])
+
+    def test_30_records_and_one_more(self):
+        for many, why in ((30, "done"), (31, "records")):
+            house = self.ran(step(program=counts_to_put(0), parameters=(many,), cards=[card("f", "more")]), turns=5000)
+            self.assertEqual((seen.why(house, 1), [row[0] for row in units.files(house)]), (why, ["f"] if why == "done" else []))
+        house = self.ran(step(program=counts_to_put(0), parameters=(30,), cards=[card("f", "new")]), turns=5000)
+        self.assertEqual(units.shown(house, "f"), [(1, records(*range(30)))])
+
+    def test_turns(self):
+        for turns, why, used in ((16, "done", (16, 0)), (15, "turns", (15, 0))):
+            house = self.ran(step(program=(*[("set", 0, 1)] * 15, ("end", 0))), turns=turns)
+            self.assertEqual((seen.why(house, 1), seen.used(house, 1)), (why, used))
+
+    def test_all_5000_turns(self):
+        house = self.ran(step(program=LOOP), turns=5000, priority=9)
+        self.assertEqual((seen.why(house, 1), seen.used(house, 1), seen.bookings(house)), ("turns", (5000, 0), [(1, 0, "acc", 50000)]))
+
+    def test_lines(self):
+        steps = [step(name, counts_to_print(), (30,)) for name in ("one", "two")]
+        for lines, why, used in ((60, "done", 60), (59, "lines", 30), (29, "lines", 0)):
+            house = self.ran(*steps, turns=5000, lines=lines)
+            self.assertEqual((seen.why(house, 1), seen.used(house, 1)[1]), (why, used))
+
+    def test_priorities(self):
+        for priority in (0, 9):
+            house = self.ran(step(program=ends_with(1)), priority=priority)
+            self.assertEqual(seen.bookings(house), [(1, 0, "acc", 2 * (priority + 1))])
 
 
 if __name__ == "__main__":
